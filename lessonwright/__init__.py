@@ -1,0 +1,1 @@
+"""Lessonwright: learners by questions and examples."""

@@ -1,0 +1,61 @@
+"""What the tests make machines and words of; nothing here is left to chance."""
+
+from itertools import product
+
+from lessonwright.machines import Machine
+
+
+def words_up_to(letters, most):
+    """All words of up to so many letters, in order, made without the program."""
+    return ["".join(word) for size in range(most + 1) for word in product(sorted(letters), repeat=size)]
+
+
+def all_machines(size, letters="ab"):
+    """All machines of so many states."""
+    width = len(letters)
+    for flat in product(range(size), repeat=size * width):
+        rows = [flat[state * width:(state + 1) * width] for state in range(size)]
+        for takes in product((False, True), repeat=size):
+            yield Machine(letters, rows, takes)
+
+
+class Steps:
+    """Numbers that look as if by chance, the same each time."""
+
+    def __init__(self, seed):
+        self.state = seed
+
+    def below(self, many):
+        self.state = (self.state * 1103515245 + 12345) % (1 << 31)
+        return (self.state >> 8) % many
+
+
+def some_machines(count, most_states, letters="ab", seed=1):
+    """Some machines of up to so many states."""
+    steps = Steps(seed)
+    for _ in range(count):
+        size = 1 + steps.below(most_states)
+        rows = [[steps.below(size) for _ in letters] for _ in range(size)]
+        yield Machine(letters, rows, [steps.below(3) == 0 for _ in range(size)])
+
+
+def words_taken(machine, most):
+    """The words of up to so many letters that a machine takes, walked without the program's own walk."""
+    found = []
+    for word in words_up_to(machine.letters, most):
+        state = 0
+        for letter in word:
+            state = machine.rows[state][machine.letters.index(letter)]
+        if machine.takes[state]:
+            found.append(word)
+    return found
+
+
+def ends_in_ab():
+    """Three states: words that end in "ab"."""
+    return Machine("ab", [[1, 0], [1, 2], [1, 0]], [False, False, True])
+
+
+def even_a():
+    """Two states: words with an even number of "a"."""
+    return Machine("ab", [[1, 0], [0, 1]], [True, False])
