@@ -2,7 +2,9 @@
 
 from itertools import product
 
-from lessonwright.machines import Machine
+from lessonwright.machines import Machine, difference, least
+from lessonwright.tables import most_words
+from lessonwright.teachers import Sly, Teacher
 
 
 def words_up_to(letters, most):
@@ -59,3 +61,39 @@ def ends_in_ab():
 def even_a():
     """Two states: words with an even number of "a"."""
     return Machine("ab", [[1, 0], [0, 1]], [True, False])
+
+
+class LearnsMachines:
+    """The tests that hold of both learners of machines; a test of one tells learned(teacher)."""
+
+    def learn(self, teacher):
+        machine, wrong = self.learned(teacher)
+        states = teacher.hidden.size()
+        self.assertIsInstance(wrong, tuple)
+        self.assertIsNone(difference(machine, teacher.hidden))
+        self.assertEqual(machine.size(), states)
+        self.assertEqual(least(machine).shown(), teacher.hidden.shown())
+        self.assertLessEqual(len(wrong), states - 1)
+        self.assertEqual(teacher.guesses, len(wrong) + 1)
+        longest = max([len(word) for word in wrong] + [0])
+        self.assertLessEqual(teacher.words_asked(), most_words(states, len(teacher.letters), longest))
+        return machine, wrong
+
+    def test_all_machines_of_two_states(self):
+        for size in (1, 2):
+            for machine in all_machines(size):
+                self.learn(Teacher(machine))
+
+    def test_some_machines(self):
+        for machine in list(some_machines(80, 12)) + list(some_machines(30, 8, "abc")):
+            self.learn(Teacher(machine))
+
+    def test_sly_words_are_longer(self):
+        for machine in some_machines(60, 9, seed=5):
+            self.learn(Sly(machine, ["abab", "b", "aab", "", "bbbbbb"]))
+
+    def test_one_state(self):
+        for take in (False, True):
+            machine = Machine("ab", [[0, 0]], [take])
+            found, wrong = self.learn(Teacher(machine))
+            self.assertEqual((found.shown(), wrong), (machine.shown(), ()))

@@ -1,11 +1,10 @@
 import unittest
 
 from lessonwright.errors import BadSize, BadWord
-from lessonwright.machines import Machine, difference, least
+from lessonwright.machines import Machine
 from lessonwright.splits import Fork, Leaf, Splitter, ends_of, learned_by_splits, leaves, put, split_depth
-from lessonwright.tables import most_words
 from lessonwright.teachers import Sly, Teacher
-from makers import all_machines, ends_in_ab, even_a, some_machines
+from makers import LearnsMachines, ends_in_ab, even_a, some_machines
 
 
 def shape(tree):
@@ -125,38 +124,9 @@ class Sifted(unittest.TestCase):
         self.assertEqual((splitter.words, shape(splitter.tree)), ([""], ""))
 
 
-class Learned(unittest.TestCase):
-    def learn(self, teacher):
-        machine, wrong = learned_by_splits(teacher)
-        states = teacher.hidden.size()
-        self.assertIsInstance(wrong, tuple)
-        self.assertIsNone(difference(machine, teacher.hidden))
-        self.assertEqual(machine.size(), states)
-        self.assertEqual(least(machine).shown(), teacher.hidden.shown())
-        self.assertLessEqual(len(wrong), states - 1)
-        self.assertEqual(teacher.guesses, len(wrong) + 1)
-        longest = max([len(word) for word in wrong] + [0])
-        self.assertLessEqual(teacher.words_asked(), most_words(states, len(teacher.letters), longest))
-        return machine, wrong
-
-    def test_all_machines_of_two_states(self):
-        for size in (1, 2):
-            for machine in all_machines(size):
-                self.learn(Teacher(machine))
-
-    def test_some_machines(self):
-        for machine in list(some_machines(80, 12)) + list(some_machines(30, 8, "abc")):
-            self.learn(Teacher(machine))
-
-    def test_sly_words_are_longer(self):
-        for machine in some_machines(60, 9, seed=5):
-            self.learn(Sly(machine, ["abab", "b", "aab", "", "bbbbbb"]))
-
-    def test_one_state(self):
-        for take in (False, True):
-            machine = Machine("ab", [[0, 0]], [take])
-            found, wrong = self.learn(Teacher(machine))
-            self.assertEqual((found.shown(), wrong), (machine.shown(), ()))
+class Learned(LearnsMachines, unittest.TestCase):
+    def learned(self, teacher):
+        return learned_by_splits(teacher)
 
     def test_wrong_words_in_order_of_the_guesses(self):
         self.assertEqual(self.learn(Teacher(ends_in_ab()))[1], ("ab", "ab"))
