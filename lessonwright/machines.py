@@ -65,7 +65,7 @@ def first_words(start, letters, step):
 
 def reached(machine):
     """Return a table of the states that words lead to, to the first such word, in the order they are come to."""
-    return first_words(0, machine.letters, machine.step)
+    return first_words(0, machine.letters, lambda state, letter: machine.step(state, letter))
 
 
 def reached_pairs(one, other, start):

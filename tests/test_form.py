@@ -24,6 +24,9 @@ AT_ONCE = {"list", "tuple", "dict", "sorted", "sum", "any", "all", "enumerate", 
 NO_NODES = (ast.AsyncFunctionDef, ast.AsyncFor, ast.AsyncWith, ast.Await, ast.Global, ast.Div, ast.Set, ast.SetComp,
             ast.Import)
 SCOPES = (ast.FunctionDef, ast.Lambda)
+BUILTIN_VALUES = (0, True, "", b"", None, [], (), {}, set(), frozenset(), range(0), slice(0), {}.items(), {}.keys(),
+                  {}.values(), iter([]), enumerate([]), zip([]), reversed([]), ValueError())
+BUILTIN_NAMES = {name for value in BUILTIN_VALUES for name in dir(value)}
 
 
 def files():
@@ -88,6 +91,24 @@ def bare(node):
     if isinstance(node, ast.Call) and isinstance(node.func, ast.Name) and node.func.id in ("enumerate", "zip", "reversed"):
         return [found for part in node.args for found in bare(part)]
     return [ast.dump(node)] if isinstance(node, (ast.Name, ast.Attribute)) else []
+
+
+def methods_of(trees):
+    return {part.name for tree in trees for row in ast.walk(tree) if isinstance(row, ast.ClassDef)
+            for part in row.body if isinstance(part, ast.FunctionDef)}
+
+
+def stored_in(trees):
+    return {node.attr for tree in trees for node in ast.walk(tree)
+            if isinstance(node, ast.Attribute) and isinstance(node.ctx, ast.Store)}
+
+
+def handed_on(tree, barred):
+    """The rows in which something of a barred name is read off an object, and not called where it stands."""
+    called = [node.func for node in ast.walk(tree) if isinstance(node, ast.Call)]
+    return [node.lineno for node in ast.walk(tree)
+            if isinstance(node, ast.Attribute) and isinstance(node.ctx, ast.Load)
+            and node.attr in barred and node not in called]
 
 
 class Form(unittest.TestCase):
@@ -191,6 +212,23 @@ class Form(unittest.TestCase):
             for node in ast.walk(tree):
                 if isinstance(node, ast.Call) and isinstance(node.func, ast.Attribute):
                     self.assertIn(node.func.attr, METHODS | own)
+
+    def test_no_method_with_a_builtin_values_name_is_handed_on(self):
+        # Own ones of such a name, and all of builtin values, unless some class stores an attribute of that name.
+        barred = (methods_of(TREES.values()) & BUILTIN_NAMES | METHODS) - stored_in(TREES.values())
+        self.assertIn("step", barred)
+        for name, tree in self.each():
+            self.assertEqual(handed_on(tree, barred), [])
+
+    def test_a_method_that_is_handed_on_is_found(self):
+        self.assertIn("step", BUILTIN_NAMES)
+        self.assertNotIn("has", BUILTIN_NAMES)
+        for row, found in (("first_words(0, machine.letters, machine.step)", [1]), ("way = machine.step", [1]),
+                           ("ways = [(machine.step, 1)]", [1]), ("words.append(word.strip)", [1]),
+                           ("machine.step(0, letter)", []), ("lambda state, letter: machine.step(state, letter)", []),
+                           ("rows_of(machine.has, words)", [])):
+            with self.subTest(row):
+                self.assertEqual(handed_on(ast.parse(row), {"step", "strip"}), found)
 
     def test_no_name_is_a_method_and_an_attribute_of_one_class(self):
         for name, tree in self.each():
