@@ -63,6 +63,20 @@ def even_a():
     return Machine("ab", [[1, 0], [0, 1]], [True, False])
 
 
+def some_examples(count, many, most, seed=1):
+    """Some rows of up to so many told points of so many places; a point may be told both ways."""
+    steps = Steps(seed)
+    for _ in range(count):
+        yield [(tuple(steps.below(2) for _ in range(many)), steps.below(2) == 1) for _ in range(steps.below(most + 1))]
+
+
+def all_tables(many):
+    """All tables of what may be told of the points of so many places, told of all, of some, or of none."""
+    points = list(product((0, 1), repeat=many))
+    for told in product((None, False, True), repeat=len(points)):
+        yield {point: take for point, take in zip(points, told) if take is not None}
+
+
 class LearnsMachines:
     """The tests that hold of both learners of machines; a test of one tells learned(teacher)."""
 
