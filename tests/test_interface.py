@@ -43,6 +43,56 @@ INTERFACE = {
         "join": "one, other", "ones": "point", "from_ones": "places, many", "flipped": "point, place",
         "apart": "one, other", "check_examples": "examples, many", "table_of": "rule, many",
         "is_rising": "rule, many", "first_unlike": "one, other, many"},
+    "ands": {
+        "And": "many, bits=None", "And.has": "self, point", "And.shown": "self", "And.widened": "self, point",
+        "And.covers": "self, other", "And.narrowed": "self, point", "closest_and": "examples, many",
+        "Learner": "many", "Learner.see": "self, point, take", "most_mistakes": "many", "Edges": "many",
+        "Edges.see": "self, point, take", "Edges.is_bare": "self", "Edges.agrees_low": "self",
+        "Edges.says": "self, point", "covered": "rule, rules, place", "all_rules": "many",
+        "with_bit": "bits, place, bit", "points_of": "rule"},
+    "ors": {
+        "Or": "many, lots", "Or.has": "self, point", "Or.shown": "self", "lots_in_order": "lots",
+        "least_true": "has, point", "OrTeacher": "formula", "OrTeacher.has": "self, point",
+        "OrTeacher.wrong_at": "self, guess", "learned_or": "teacher", "edges": "formula", "is_top": "formula, point",
+        "check_edges": "has, many, formula, papers", "crossed": "formula", "lot_point": "lot, many"},
+    "horns": {
+        "Horn": "many, rules", "Horn.has": "self, point", "Horn.shown": "self", "Horn.closed": "self, point",
+        "breaks": "point, rule", "HornTeacher": "horn", "HornTeacher.has": "self, point",
+        "HornTeacher.wrong_at": "self, guess", "all_asks": "point, many", "learned_horn": "teacher, most=400",
+        "take_in": "teacher, broken, point", "is_closed": "points", "rules_of": "points, many",
+        "is_less": "one, other"},
+    "ladders": {
+        "Ladder": "steps, last", "Ladder.has": "self, point", "Ladder.shown": "self", "next_step": "left, many",
+        "learned_ladder": "examples, many", "check_none": "examples, many, points",
+        "ladder_agrees": "ladder, examples", "turned_ladder": "ladder", "shortened": "ladder",
+        "trimmed": "steps, last"},
+    "boughs": {
+        "check_tree": "tree, many", "checked": "tree, many, used", "has": "tree, point", "size": "tree",
+        "depth": "tree", "tree_agrees": "tree, examples", "table_key": "table", "halves": "table, place",
+        "tree_costs": "examples, many, flat", "cost_of": "table, many, flat, found",
+        "best": "examples, many, flat=False", "grown": "table, many, flat, found",
+        "check_costs": "examples, many, flat, found", "greedy": "examples, many", "grown_greedy": "table, many",
+        "rarer": "table"},
+    "halves": {
+        "check_rules": "rules", "kept": "rules, question, answer", "Halving": "rules",
+        "Halving.guess": "self, question", "Halving.see": "self, question, answer", "most_halvings": "many",
+        "fewest": "rules", "fewest_of": "rules, found", "Careful": "rules", "Careful.guess": "self, question",
+        "Careful.see": "self, question, answer", "hard_tree": "rules, depth", "check_hard": "rules, tree",
+        "checked_hard": "rules, tree, way", "worst": "learner, tree"},
+    "winnows": {
+        "Winnow": "many", "Winnow.guess": "self, point", "Winnow.see": "self, point, take", "logarithm": "many",
+        "most_winnow": "many, few", "is_any": "point, places", "alive": "learner", "weight_of": "learner"},
+    "sides": {
+        "inner": "one, other", "check_signed": "examples", "Parter": "many", "Parter.sign": "self, row",
+        "Parter.see": "self, row, sign", "parted": "examples, most=2000", "margin": "examples, weights",
+        "check_parted": "examples, weights", "side_bound": "mistakes, examples, weights",
+        "check_mixed": "examples, shares", "mixed_away": "examples, most=3", "lifted": "row", "squared": "row"},
+    "experts": {
+        "Vote": "many", "Vote.whole_weights": "self", "Vote.guess": "self, answers",
+        "Vote.see": "self, answers, right", "power": "base, count", "vote_bound": "mistakes, best, many",
+        "Mix": "many", "Mix.shares": "self", "Mix.see": "self, losses", "common": "one, other", "small": "top, low",
+        "added": "one, other", "in_bounds": "mix", "Sleepers": "many", "Sleepers.leader": "self, answers",
+        "Sleepers.see": "self, answers, right"},
 }
 
 
