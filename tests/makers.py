@@ -77,6 +77,12 @@ def all_tables(many):
         yield {point: take for point, take in zip(points, told) if take is not None}
 
 
+def is_tuples(value):
+    """Whether a value is a tuple, and all rows within, however deep, are tuples too."""
+    return isinstance(value, tuple) and all(
+        is_tuples(part) for part in value if isinstance(part, (tuple, list, dict, set)))
+
+
 class LearnsMachines:
     """The tests that hold of both learners of machines; a test of one tells learned(teacher)."""
 

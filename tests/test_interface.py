@@ -93,6 +93,25 @@ INTERFACE = {
         "Mix": "many", "Mix.shares": "self", "Mix.see": "self, losses", "common": "one, other", "small": "top, low",
         "added": "one, other", "in_bounds": "mix", "Sleepers": "many", "Sleepers.leader": "self, answers",
         "Sleepers.see": "self, answers, right"},
+    "shatters": {
+        "all_lots": "many", "ways_on": "rules, lot", "power_of_two": "count", "is_shattered": "rules, lot",
+        "largest": "rules", "dimension": "rules", "choose": "many, few", "most_rules": "questions, size",
+        "check_lot": "rules, lot, witnesses", "witnesses_of": "rules, lot", "pressed": "rules", "is_down": "rules",
+        "growth": "rules"},
+    "boosts": {
+        "Stump": "place, bit", "Stump.has": "self, point", "Stump.shown": "self", "all_stumps": "many",
+        "wrong_weight": "rule, table, weights", "best_stump": "table, weights, many", "Boost": "examples, many",
+        "Boost.step": "self", "Boost.lighten": "self", "Boost.run": "self, most", "Boost.has": "self, point",
+        "Boost.count_mistakes": "self", "small_by": "one, other", "boost_bound": "boost"},
+    "nears": {
+        "check_rows": "examples", "far": "one, other", "nearest": "examples, row, many",
+        "answer": "examples, row, many", "left_out": "examples, many", "fewer_examples": "examples",
+        "answers_all": "examples, kept", "middle_of": "rows", "by_middles": "examples, row"},
+    "chances": {
+        "Counts": "many", "Counts.put": "self, point, answer", "Counts.take": "self, point, answer",
+        "Counts.can_take": "self, answer, place, bit", "Counts.answers": "self", "Counts.weight": "self, answer, point",
+        "Counts.likeliest": "self, point", "Counts.chance": "self, answer, point", "Counts.shown": "self",
+        "shared": "one, other", "counted": "examples, many"},
 }
 
 
