@@ -93,6 +93,12 @@ def bare(node):
     return [ast.dump(node)] if isinstance(node, (ast.Name, ast.Attribute)) else []
 
 
+def kept_alone(tree):
+    """What a plain name is given as a whole."""
+    return [node.value for node in ast.walk(tree)
+            if isinstance(node, ast.Assign) and [type(target) for target in node.targets] == [ast.Name]]
+
+
 def methods_of(trees):
     return {part.name for tree in trees for row in ast.walk(tree) if isinstance(row, ast.ClassDef)
             for part in row.body if isinstance(part, ast.FunctionDef)}
@@ -260,6 +266,9 @@ class Form(unittest.TestCase):
                     word = getattr(node.func, "id", getattr(node.func, "attr", ""))
                     if word in ("zip", "enumerate", "reversed", "items", "keys", "values"):
                         self.assertIn(node, let, word)
+                    # A range may be kept under a name, too, and nowhere else.
+                    if word == "range":
+                        self.assertIn(node, let + kept_alone(tree), word)
 
     def test_loops_leave_what_they_go_over(self):
         for name, tree in self.each():

@@ -1,4 +1,4 @@
-"""Each name of the interface that has landed stands in its own file, with its arguments as the document has them."""
+"""Each name of the interface stands in its own file, with its arguments as the document has them."""
 
 import importlib
 import inspect
@@ -112,6 +112,31 @@ INTERFACE = {
         "Counts.can_take": "self, answer, place, bit", "Counts.answers": "self", "Counts.weight": "self, answer, point",
         "Counts.likeliest": "self, point", "Counts.chance": "self, answer, point", "Counts.shown": "self",
         "shared": "one, other", "counted": "examples, many"},
+    "lines": {
+        "part": "top, low", "plus": "one, other", "times": "one, other", "minus": "one, other",
+        "solved": "rows, tops", "closest": "examples", "missed": "examples, weights", "squares": "parts",
+        "check_closest": "examples, weights", "rising": "numbers", "check_rising": "numbers, parts",
+        "middle": "numbers", "distance": "numbers, one"},
+    "groups": {
+        "spread": "numbers", "part_less": "one, other", "group_costs": "numbers, many", "grouped": "numbers, many",
+        "check_groups": "numbers, parts, found", "ties": "points", "tied": "points, many", "gap": "points, lots"},
+    "queries": {
+        "check_things": "weights", "any_tree": "weights", "depths": "tree", "questions_of": "tree, weights",
+        "check_asking": "tree, weights", "places_in": "tree", "check_questions": "questions, many",
+        "query_costs": "weights, questions", "least_of": "things, weights, questions, found",
+        "least_questions": "weights, questions", "asked_for": "weights, questions, thing",
+        "alike_things": "questions, many"},
+    "ranks": {
+        "Weigher": "letters, first, squares, last", "Weigher.weight": "self, word", "Weigher.size": "self",
+        "rank": "rows", "table": "weight, starts, ends", "row_table": "weigher, starts, ends", "rank_of": "weigher",
+        "free_starts": "weigher, starts, ends", "mixed": "rows, row", "Learned": "weigher",
+        "Learned.weight": "self, word", "Learned.size": "self", "total": "parts"},
+    "desks": {
+        "number": "word", "point_of": "word, many", "answer_of": "word", "said": "answer", "told_tree": "tree",
+        "told_ladder": "ladder", "figure_of": "text", "Desk": "", "Desk.say": "self, line", "Desk.do": "self, line",
+        "Desk.places": "self", "Desk.here": "self, word", "Desk.in_order": "self", "Desk.smallest": "self",
+        "Desk.begin": "self, many", "Desk.see": "self, point, answer", "Desk.drop": "self, point",
+        "Desk.written": "self, words, answer", "lines_of": "text", "done_again": "text"},
 }
 
 
