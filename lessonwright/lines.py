@@ -2,6 +2,7 @@
 
 from lessonwright.errors import BadPaper, BadSize
 from lessonwright.experts import small
+from lessonwright.sides import inner
 
 
 def part(top, low):
@@ -76,12 +77,13 @@ def closest(examples):
 
 def share(one, other):
     """Return the sum of two rows' products, as a part."""
-    return sum([mine * theirs for mine, theirs in zip(one, other)]), 1
+    return inner(one, other), 1
 
 
 def missed(examples, weights):
     """Return what weights miss each example by, as parts."""
-    return tuple([minus((told, 1), product_of(weights, row)) for row, told in examples])
+    # What weights say, less what is told: above nought where they say too much.
+    return tuple([plus((-told, 1), product_of(weights, row)) for row, told in examples])
 
 
 def squares(parts):

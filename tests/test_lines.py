@@ -131,8 +131,8 @@ class Closest(unittest.TestCase):
 
     def test_missed(self):
         examples = [((0, 1), 0), ([1, 1], 1), ((2, 1), 1)]
-        self.assertEqual(missed(examples, ((1, 2), (1, 6))), ((-1, 6), (1, 3), (-1, 6)))
-        self.assertEqual(missed(examples, [(0, 1), (0, 1)]), ((0, 1), (1, 1), (1, 1)))
+        self.assertEqual(missed(examples, ((1, 2), (1, 6))), ((1, 6), (-1, 3), (1, 6)))
+        self.assertEqual(missed(examples, [(0, 1), (0, 1)]), ((0, 1), (-1, 1), (-1, 1)))
         self.assertEqual(missed([], ((1, 2),)), ())
         self.assertTrue(is_tuples(missed(examples, [[0, 1], [0, 1]])))
 
